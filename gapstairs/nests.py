@@ -24,24 +24,15 @@ def doorstep(drawing, body, i):
     return step_before(drawing, body, piece_of(drawing, body, i))
 
 
-def pieces_around(drawing, body, spot):
-    """The ascending list of the pieces that have a ring around a spot that fits."""
+def from_outside(drawing, body, spot):
+    """The list of the pieces that have a ring around a spot that fits, the outermost first."""
     found = [
         ring[0] for ring in base_rings(drawing, body)
         if parity_of(drawing, body, ring, spot) == 1
     ]
+    # A ring around the doorstep of a piece has a block further left than the piece has one:
+    # so pieces that ascend come from the outside.
     return [piece for piece in clusters_of(drawing, body) if any([i in piece for i in found])]
-
-
-def from_outside(drawing, body, spot):
-    """The list of the pieces around a spot that fits, the outermost first."""
-    found = pieces_around(drawing, body, spot)
-    # The further in a piece stands, the more of these pieces are around its own doorstep.
-    rows = [
-        (len(pieces_around(drawing, body, step_before(drawing, body, piece))), piece)
-        for piece in found
-    ]
-    return [piece for _, piece in sorted(rows)]
 
 
 def around(drawing, body, spot):

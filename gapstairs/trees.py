@@ -54,8 +54,7 @@ def bonds_of(web, body):
     # summed over the heights, are what a heaviest forest weighs.
     for width in stops_of_width(web, body[0]):
         heights = [(height_at(stairs, width, body[1]), pair) for pair, stairs in web.links.items()]
-        chosen = heaviest(web.places, [row for row in heights if row[0] > 0])
-        total += (width - done) * sum([row[0] for row in chosen])
+        total += (width - done) * sum([row[0] for row in heaviest(web.places, heights)])
         done = width
     return total
 

@@ -186,6 +186,11 @@ class Counting(unittest.TestCase):
             wanted = len(c.clusters(drawing, body)) - c.signed_lots(drawing, body)
             self.assertEqual(len(c.closed_chambers(drawing, body)), wanted)
 
+    def test_clusters_ascend(self):
+        # The first and the last block come together only by way of the last one.
+        drawing = Drawing([(0, 0, 10, 1), (1, 20, 3, 21), (2, 21, 4, 22), (8, 4, 10, 5), (9, 1, 10, 5)])
+        self.assertEqual(c.clusters(drawing, (1, 1)), [(0, 3, 4), (1, 2)])
+
     def test_all_in_one_place(self):
         heap = Drawing([(-k, -k, k, k) for k in range(1, 13)])
         self.assertEqual(c.clusters(heap, (1, 1)), [tuple(range(12))])

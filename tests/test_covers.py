@@ -125,6 +125,14 @@ class CoverBoxes(unittest.TestCase):
             [None, 2, None, None], (None, 2, None), (None, True, None, None), None, (False, 2, None, None),
         ])
 
+        # The last row or column that a box has is the one ahead of its end.
+        for cell, ends in (((0, -1), [(None, None, None, 0), (None, None, None, -1)]),
+                           ((-1, 0), [(None, None, 0, None), (None, None, -1, None)]),
+                           ((0, 2), [(None, 2, None, None), (None, 3, None, None)]),
+                           ((2, 0), [(2, None, None, None), (3, None, None, None)])):
+            told = [c.are_cover_boxes(one, cell, {(None, None): box}) for box in ends]
+            self.assertEqual(told, [True, False])
+
     def test_others_are_none(self):
         good = c.cover_boxes(YARD, INSIDE)
         self.assertEqual(good, {(2, 4): (1, 1, 3, 5), (5, 3): (1, 2, 6, 5)})

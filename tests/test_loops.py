@@ -115,7 +115,7 @@ class Loops(unittest.TestCase):
         h.never(self, lambda thing: p.is_loop_round(ISLAND, (4, 4), (1, 1), i, thing), [
             loop[1:], loop[:-1], loop[1:] + loop[1:2], [(1, 1)], [], None, {(1, 1): 1}, loop + [(1, True)],
             [(1, 1), (1, 9), (9, 9), (1, 9), (1, 1)], [list(spot) for spot in loop], loop + loop[1:],
-            [(1, 1), (1, 10), (9, 10), (9, 1), (1, 1)],
+            [(1, 1), (1, 10), (9, 10), (9, 1), (1, 1)], [(1, 9), (1, 1)], [(1, 1), (1, 9)],
         ])
         h.judge_any(self, p.is_loop_round, ISLAND, (4, 4), (1, 1), i)
         h.judge_any(self, p.is_loop_bar, ISLAND, (4, 4), (1, 1), i)
@@ -127,6 +127,24 @@ class Loops(unittest.TestCase):
             {piece: tuple(True if k == 1 else k for k in ring)},
         ])
         h.judge_any(self, p.is_loop_bar, ISLAND, (3, 3), (1, 1), 0)
+
+    def test_each_piece_of_the_line_needs_its_ring(self):
+        nested = Drawing(h.pen(0, 0, 20, 20) + h.pen(3, 3, 17, 17) + h.pen(6, 6, 14, 14))
+        middle = nested.blocks.index((3, 3, 4, 17))
+        bar = p.loop_bar(nested, (1, 1), (9, 9), middle)
+        self.assertEqual(list(bar), line_of(nested, (1, 1), middle))
+        self.assertEqual(len(bar), 2)
+        self.assertIs(p.is_loop_bar(nested, (1, 1), (9, 9), middle, bar), True)
+        outer, inner = bar
+        for ring in (bar[inner], outer, inner, bar[inner][:3], None):
+            told = is_parting(nested, (1, 1), doorstep(nested, (1, 1), outer[0]), (9, 9), ring)
+            self.assertIs(p.is_loop_bar(nested, (1, 1), (9, 9), middle, {**bar, outer: ring}), told)
+        for ring in (bar[outer], outer, inner, bar[outer][:3], None):
+            told = is_parting(nested, (1, 1), doorstep(nested, (1, 1), inner[0]), (9, 9), ring)
+            self.assertIs(p.is_loop_bar(nested, (1, 1), (9, 9), middle, {**bar, inner: ring}), told)
+        # From between the outer and the middle pen only one of the two is parted.
+        self.assertIsNone(p.loop_bar(nested, (1, 1), (1, 1), middle))
+        self.assertIsNotNone(p.loop_round(nested, (1, 1), (1, 1), middle))
 
     def test_refused(self):
         good = [ISLAND, (3, 3), (1, 1), 4]
