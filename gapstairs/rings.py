@@ -88,17 +88,21 @@ def trunks(drawing, body):
     return [found[i] for i in range(len(table))]
 
 
-def ring_through(one, other):
-    """The ring of two trunks whose first blocks are near, cut off where they come together."""
-    shared = [i for i in one if i in other]
-    first = list(one[:one.index(shared[0]) + 1])
-    second = list(other[:other.index(shared[0])])
-    walk = first + list(reversed(second))
+def ring_of_walk(walk):
+    """The ring that goes all around a list of different blocks."""
     at = walk.index(min(walk))
     turned = walk[at:] + walk[:at]
     if turned[1] > turned[-1]:
         turned = turned[:1] + list(reversed(turned[1:]))
     return tuple(turned)
+
+
+def ring_through(one, other):
+    """The ring of two trunks whose first blocks are near, cut off where they come together."""
+    shared = [i for i in one if i in other]
+    first = list(one[:one.index(shared[0]) + 1])
+    second = list(other[:other.index(shared[0])])
+    return ring_of_walk(first + list(reversed(second)))
 
 
 def base_rings(drawing, body):

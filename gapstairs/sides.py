@@ -6,7 +6,7 @@ from gapstairs.errors import BadWay
 from gapstairs.fits import check_here
 from gapstairs.marks import heart_of, mark_of
 from gapstairs.nears import all_near
-from gapstairs.rings import trunks
+from gapstairs.rings import ring_through, trunks
 from gapstairs.ways import is_way_of
 
 
@@ -26,6 +26,38 @@ def agree(drawing, body, one, other, dealt):
 def along_trunk(drawing, body, one, other, trunk):
     """The side of the first block of the trunk if the last one has 0."""
     return sum([change(drawing, body, one, other, i, j) for i, j in zip(trunk, trunk[1:])]) % 2
+
+
+def links_of(drawing, body, one, other):
+    """For each block the list of the pairs of a near block and of what change says of the two."""
+    links = [[] for _ in drawing.blocks]
+    for i, j in all_near(drawing, body):
+        unlike = change(drawing, body, one, other, i, j)
+        links[i].append((j, unlike))
+        links[j].append((i, unlike))
+    return links
+
+
+def odd_ring(links, out):
+    """A ring of blocks that are not in out, around which the changes are odd; None if there is none."""
+    dealt = {}
+    for root in range(len(links)):
+        if root in dealt or root in out:
+            continue
+        dealt[root] = (0, (root,))
+        waiting = [root]
+        while waiting:
+            here = waiting.pop(0)
+            side, trunk = dealt[here]
+            for there, unlike in links[here]:
+                if there in out:
+                    continue
+                if there not in dealt:
+                    dealt[there] = ((side + unlike) % 2, (there,) + trunk)
+                    waiting.append(there)
+                elif dealt[there][0] != (side + unlike) % 2:
+                    return ring_through(trunk, dealt[there][1])
+    return None
 
 
 def check_ends(drawing, body, one, other):

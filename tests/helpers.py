@@ -5,6 +5,7 @@ import random
 
 from gapstairs.drawings import Drawing
 from gapstairs.grounds import Ground
+from gapstairs.programs import Program
 from gapstairs.webs import Web
 
 
@@ -45,6 +46,15 @@ def any_values():
         deep("list"), deep("tuple"), deep("dict"), deep("key", 40), deep_key(),
         Drawing([]), Drawing([(0, 0, 1, 1)]), Ground(()), Ground(((0, 1, ((0, 1),)),)),
         Web(1, {}), Web(2, {(0, 1): ((1, 1),)}), [Drawing([])], (Web(1, {}),), {1: Ground(())},
+        "left", "up", ("left",), ("left", "up"), ("spot", 0), ("go", "left"), [("go", "left")], (("call", "a"),),
+        ("upright", 0, None, None), ("level", 1, 0, 2), ("upright", True, 0, 1), ("level", 1, 2, 0), ["level", 1, 0, 2],
+        ("upright", 0, False, None), ("block", 0, 0), ("block", True, 0), ("ring", (0, 1, 2)), ("ring", [0, 1, 2]),
+        ("never",), ["never"], ("ends", (0, 0)), ("lost", "left"), {(): ("block", 0, 0)}, {(): ("ring", (0, 1, 2))},
+        {("upright", 0, None, None): 0}, {("upright", False, None, None): 0}, {("a", (0, 0)): (("never",), None)},
+        {("a", (0, False)): (("never",), None)}, {0: {(0, 0): 0, (0, 1): 1}}, {"a": [("go", "left")]},
+        {"a": [["go", "left"]]}, {"A": []}, {"a": {}}, Program({"a": []}, "a"), [Program({"b": [("go", "up")]}, "b")],
+        (("spot", 0), ("spot", 0)), (("left", 0), ("low", 0)), (("spot", False), ("spot", 0)), [("spot", 0), ("spot", 0)],
+        ((), [(0, 0)]), {(1, 1): ((), [(0, 0)])}, {(1, 1): {(): ("block", 0, 0)}}, {(1, 1): ("block", 0, 0)},
     ]
 
 
@@ -96,6 +106,35 @@ def ground(thing):
 
 def web(thing):
     return type(thing) is Web
+
+
+def program(thing):
+    return type(thing) is Program
+
+
+def side(thing):
+    return type(thing) is str and thing in ("left", "down", "right", "up")
+
+
+def from_zero(thing):
+    return number(thing) and thing >= 0
+
+
+def lane(thing):
+    if type(thing) is not tuple or len(thing) != 4 or type(thing[0]) is not str:
+        return False
+    if thing[0] not in ("upright", "level") or not number(thing[1]):
+        return False
+    if not all(end is None or number(end) for end in thing[2:]):
+        return False
+    return None in thing[2:] or thing[2] <= thing[3]
+
+
+def stops(thing):
+    """Whether it is a list of spots, each two neighbours of which differ in just one number."""
+    if type(thing) not in (list, tuple) or not thing or not all(pair_of_numbers(item) for item in thing):
+        return False
+    return all((a[0] == b[0]) + (a[1] == b[1]) == 1 for a, b in zip(thing, thing[1:]))
 
 
 def index_below(many):
@@ -342,6 +381,28 @@ class Flood:
                     self.home[there] = start
                     waiting.append(there)
 
+    def moves_from(self, start):
+        """The fewest straight moves from a spot to each spot of its chamber, all spots looked at."""
+        if start not in self.home:
+            return {}
+        found = {start: 0}
+        rim = [start]
+        while rim:
+            fresh = []
+            for x, y in rim:
+                for dx, dy in ((1, 0), (-1, 0), (0, 1), (0, -1)):
+                    k = 1
+                    # What is known for less moves need not be passed again, but what lies behind it may be new.
+                    while (x + k * dx, y + k * dy) in self.home and not is_barred(
+                            self.blocks, self.size, 2 * x + (2 * k - 1) * dx, 2 * y + (2 * k - 1) * dy):
+                        there = (x + k * dx, y + k * dy)
+                        if there not in found:
+                            found[there] = found[(x, y)] + 1
+                            fresh.append(there)
+                        k += 1
+            rim = fresh
+        return found
+
     def outer(self):
         return self.home[(self.left, self.low)]
 
@@ -376,3 +437,53 @@ def small_scenes(seed, rounds=40, most=7):
         blocks = random_blocks(dice, many, dice.choice([3, 5, 7]), dice.choice([2, 3, 6]))
         scenes.append((blocks, (dice.randint(1, 5), dice.randint(1, 5))))
     return scenes
+
+
+def leaky(dice):
+    """A pen with gaps between its walls, and perhaps a block in it."""
+    wide, high = dice.randint(7, 10), dice.randint(7, 10)
+    a, b, c, d = [dice.randint(0, 3) for _ in range(4)]
+    walls = [(0, 0, wide - a, 1), (a, high - 1, wide - b, high), (0, c, 1, high - 1), (wide - 1, d, wide, high - c)]
+    x, y = dice.randint(2, wide - 3), dice.randint(2, high - 3)
+    return walls + [(x, y, x + 1, y + 1)][:dice.randint(0, 1)]
+
+
+def two_spots(seed, rounds=20, most=5, span=4):
+    """Small drawings, each with two spots: some made by hand, the others at random."""
+    dice = random.Random(seed)
+    trap = [(0, 0, 12, 1), (0, 9, 12, 10), (0, 0, 1, 10), (11, 0, 12, 6), (4, 3, 6, 9), (8, 1, 9, 5)]
+    maze = [
+        (0, 0, 20, 1), (0, 9, 20, 10), (0, 0, 1, 10), (19, 0, 20, 10),
+        (4, 0, 5, 7), (8, 4, 9, 10), (12, 0, 13, 6), (16, 3, 17, 10),
+    ]
+    scenes = [
+        (maze, (1, 1), (18, 8)), (maze, (9, 8), (1, 1)),
+        ([], (0, 0), (3, -4)), ([], (2, 2), (2, 2)), ([(0, 0, 2, 3)], (-4, 1), (5, 1)), ([(0, 0, 2, 3)], (-4, 1), (1, 1)),
+        ([(0, 0, 2, 3)], (1, 1), (1, 1)), ([(0, 0, 2, 3)], (2, 3), (2, 3)), ([(0, 0, 2, 2), (3, 3, 5, 5)], (3, 1), (0, 4)),
+        (pen(0, 0, 6, 6), (1, 1), (2, 3)), (pen(0, 0, 6, 6), (1, 1), (9, 9)), (pen(0, 0, 6, 6)[1:], (1, 2), (9, 9)),
+        (trap, (1, 1), (14, 7)), (trap, (6, 3), (1, 7)), (lattice(2, 2), (1, 1), (4, 4)),
+        ([(0, 0, 4, 1), (0, 3, 4, 4), (5, 0, 9, 1), (5, 4, 9, 5)], (0, 1), (9, 1)),
+        ([(0, 0, 6, 6), (1, 1, 2, 2), (0, 0, 6, 1), (5, 0, 6, 6)], (6, 2), (-3, 2)),
+    ]
+    for _ in range(rounds):
+        if dice.random() < 0.4:
+            blocks = leaky(dice)
+            inside = [(x, y) for x in range(1, 5) for y in range(1, 5) if not is_barred(blocks, (1, 1), 2 * x, 2 * y)]
+            scenes.append((blocks, dice.choice(inside), (dice.choice([-3, 4, 12]), dice.choice([-2, 11]))))
+        else:
+            blocks = random_blocks(dice, dice.randint(1, most), span, dice.choice([2, 3, 5]))
+            free = Flood(blocks, (1, 1)).spots()
+            scenes.append((blocks, dice.choice(free), dice.choice(free)))
+    return [(Drawing(blocks), one, other) for blocks, one, other in scenes]
+
+
+def sizes_for(drawing, spots):
+    """All bodies of the gap grid and some beyond it, found on their own way."""
+    found = []
+    for axis in (0, 1):
+        starts = [block[axis + 2] for block in drawing.blocks] + [spot[axis] for spot in spots]
+        among = {block[axis] - start for block in drawing.blocks for start in starts}
+        among = sorted(number for number in among if number >= 1)
+        last = among[-1] if among else 0
+        found.append(among + [last + 1, last + 3])
+    return [(a, b) for a in found[0] for b in found[1]]

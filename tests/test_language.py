@@ -30,10 +30,30 @@ INTERFACE = {
     "spans": "vector span showing is_showing",
     "nests": "doorstep around nest",
     "loops": "loop_round is_loop_round loop_bar is_loop_bar",
+    "rooms": "room stairs_of_way",
+    "gaps": "gap_grid top grid_bodies",
+    "passages": "stairs_between stairs_out stairs_web",
+    "climbs": "climb_table is_climb_table",
+    "bars": "is_bar bar_table is_bar_table are_both",
+    "detours": "loop_stairs",
+    "drawn": "drawn",
+    "lanes": "lines is_lane on_lane crossing lanes",
+    "moves": "fewest_moves short_way heights are_heights",
+    "movestairs": "move_stairs move_row short_table height_table is_short_table is_height_table are_move_papers",
+    "sheets": "shortest_ring fewest_around sheet_heights are_sheet_heights",
+    "ringstairs": "ring_stairs ring_row ring_table is_ring_table sheet_table is_sheet_table",
+    "removals": "is_enough need_table is_need_table fewest_taken least_lots",
+    "takestairs": "take_stairs take_row lot_table is_lot_table need_tables are_need_tables trade_stairs binding",
+    "touching": "touching touched gone slid",
+    "rims": "rim rim_turn",
+    "cells": "fine_cells fine_cell place named",
+    "programs": "Program flipped_program circular inlined unlooped escape_program",
+    "runs": "run trail ledger is_ledger",
+    "tables": "run_table parting_body alike_runs sure_stairs",
 }
 METHODS = {
     "Web": "__init__ __eq__", "Drawing": "__init__ __eq__ __len__ __contains__",
-    "Ground": "__init__ __eq__ __contains__ __or__ __and__ __sub__",
+    "Ground": "__init__ __eq__ __contains__ __or__ __and__ __sub__", "Program": "__init__ __eq__ __len__ __contains__",
 }
 LIBRARY = {"itertools": {"combinations"}}
 CALLED = set("""len range enumerate zip min max sum abs sorted reversed int str bool list tuple dict set isinstance
@@ -63,6 +83,8 @@ def is_plain(node):
         return isinstance(node.op, ast.USub) and is_plain(node.operand)
     if isinstance(node, (ast.Tuple, ast.List)):
         return all(is_plain(item) for item in node.elts)
+    if isinstance(node, ast.Dict):
+        return all(isinstance(item, ast.Constant) for item in node.keys + node.values)
     return isinstance(node, ast.Constant) and type(node.value) is not float
 
 
@@ -78,6 +100,8 @@ class File:
         self.imported = {alias.name for node in self.imports for alias in node.names}
         self.defined = {n.name for n in self.tree.body if isinstance(n, (ast.FunctionDef, ast.ClassDef))}
         self.classes = {n.name for n in self.tree.body if isinstance(n, ast.ClassDef)}
+        functions = [n for n in self.nodes if isinstance(n, ast.FunctionDef)]
+        self.parameters = {arg.arg for n in functions for arg in n.args.args}
         self.values = {t.id for n in self.tree.body if isinstance(n, ast.Assign) for t in n.targets}
 
 
@@ -191,7 +215,7 @@ class Language(unittest.TestCase):
         if isinstance(node.func, ast.Attribute):
             self.assertIn(node.func.attr, METHODS_OF_VALUES | {"__init__"})
             self.assertEqual(words, [])
-        elif node.func.id not in file.imported | file.defined:
+        elif node.func.id not in file.imported | file.defined | file.parameters:
             self.assertIn(node.func.id, CALLED)
             allowed = {"sorted": {"key", "reverse"}, "min": {"key", "default"}, "max": {"key", "default"}}
             self.assertLessEqual(set(words), allowed.get(node.func.id, set()))
@@ -207,7 +231,9 @@ class Language(unittest.TestCase):
         if called_name(node) not in VIEWS:
             return
         if isinstance(parent, ast.Call):
-            self.assertIn(called_name(parent), TAKING | {"combinations"})
+            # Of these only a range stands in reversed(..).
+            allowed = {"combinations", "reversed"} if called_name(node) == "range" else set()
+            self.assertIn(called_name(parent), TAKING | allowed)
             self.assertIn(node, parent.args)
         else:
             self.assertIsInstance(parent, (ast.For, ast.comprehension))
