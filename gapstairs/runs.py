@@ -246,7 +246,8 @@ def bears_out(codes, boxes, key, table):
         return False
     if outcome == NEVER:
         return True
-    return all([table[other][1] is not None and table[other][1] < rank for other in walk[1]])
+    # What a walk asks for that comes to an end, or is lost, has a rank.
+    return all([table[other][1] < rank for other in walk[1]])
 
 
 def is_ledger(drawing, body, spot, program, thing):

@@ -22,7 +22,7 @@ def right_turn(side):
 
 def is_across(side, along):
     """Whether any value is a side across the side."""
-    return is_side(along) and along in (left_turn(side), right_turn(side))
+    return along in (left_turn(side), right_turn(side))
 
 
 def axis_of(side):

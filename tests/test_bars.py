@@ -62,7 +62,7 @@ class Bars(unittest.TestCase):
         h.never(self, lambda thing: b.is_bar(PEN, (1, 1), (0, 1), (9, 9), thing), [
             ("block", False, 0), ("block", 0, False), ("block", 1, 0), ("block", 0, 2), ["block", 0, 0], ("block", 0),
             ("block", 0, 0, 0), ("block", -2, 0), ("block", 0, -4), ("ring", ring), ("ring", ring, 0), "block", {"block": 0},
-            ("block", None, 0), ("block", 0, 4), ("block", "0", 0),
+            ("block", None, 0), ("block", 0, 4), ("block", "0", 0), ("blocks", 0, 0), (True, 0, 0),
         ])
         for front in ((PEN, (1, 1), (1, 1), (9, 9)), (PEN, (1, 1), (0, 1), (9, 9)), (Drawing([]), (1, 1), (0, 1), (9, 9))):
             h.judge_any(self, b.is_bar, *front)

@@ -90,6 +90,10 @@ class Moves(unittest.TestCase):
                     first = {lane: dice.randint(0, most + 2) for lane in every}
                 else:
                     first = m.heights(drawing, body, one, other, most)
+                for down in (-3, -2, -1, 1):
+                    thing = {lane: first[lane] + down for lane in every}
+                    wanted = check_heights(drawing, body, one, other, most, thing)
+                    self.assertIs(m.are_heights(drawing, body, one, other, most, thing), wanted)
                 for _ in range(12):
                     thing = dict(first)
                     for lane in dice.sample(every, dice.randint(0, min(3, len(every)))):

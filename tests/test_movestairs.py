@@ -160,6 +160,12 @@ class Papers(unittest.TestCase):
             for most in (0, 1, 2, 3, 4, 999999999):
                 ways = m.short_table(one, *ends, most)
                 self.assertIs(m.is_short_table(one, *ends, most, ways), True)
+        # Only by far to the right, or by far above, do all widths, or heights, get there.
+        for drawing, ends in ((Drawing([(2, 3, 4, 4)]), ((0, 0), (0, 6))), (Drawing([(3, 2, 4, 4)]), ((0, 0), (6, 0)))):
+            self.assertEqual(m.move_row(drawing, *ends)[2:], m.move_row(drawing, *ends)[2:3] + [stairs_between(drawing, *ends)])
+            self.assertTrue(all(None in corner for corner in m.short_table(drawing, *ends, 3)))
+            ways = m.short_table(drawing, *ends, 3)
+            self.assertIs(m.is_short_table(drawing, *ends, 3, ways), True)
         self.assertEqual(m.height_table(Drawing([]), (0, 0), (1, 1), 2), {})
         self.assertIs(m.are_move_papers(Drawing([]), (0, 0), (1, 1), 2, ALL, {(None, None): [(0, 0), (0, 1), (1, 1)]}, {}), True)
         self.assertIs(m.are_move_papers(Drawing([]), (0, 0), (1, 1), 1, ALL, {(None, None): [(0, 0), (0, 1), (1, 1)]}, {}), False)

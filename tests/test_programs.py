@@ -108,7 +108,8 @@ class Programs(unittest.TestCase):
         for table in (
                 {}, {"a": [GO] * 401}, {"a": [GO] * 200, "b": [GO] * 201}, {"a": nest(9)}, {"a": nest(8, [GO])}, {"abcdefghijklm": []},
                 {"a": [("while", "up", [GO] * 400)]}, {f"p{k}": [] for k in range(100)}, {"": []}, {"9a": []}, {"a_": []}, {"A": []},
-                {"a b": []}, {"\u00e9": []}, {"a\u00e9": []}, {"a": nest(9, word="if")}, {"a": nest(8, [("call", "a")])}, {"a\n": []}):
+                {"a b": []}, {"\u00e9": []}, {"a\u00e9": []}, {"a": nest(9, word="if")}, {"a": nest(8, [("call", "a")])}, {"a\n": []},
+                {"a": [], "B": []}, {"a": [], 1: []}, {"a": [], None: []}):
             h.fails(self, BadProcedures, p.Program, table, "a")
 
     def test_rows(self):

@@ -34,9 +34,13 @@ def lots_that_do(drawing, body, one, other):
     return found
 
 
+SHARED = Drawing([
+    (0, 0, 1, 12), (1, 0, 12, 1), (1, 11, 12, 12), (11, 1, 12, 11), (1, 3, 8, 4), (1, 8, 8, 9), (7, 4, 8, 8)])
+
+
 def scenes(seed, rounds_=14):
     dice = random.Random(seed)
-    found = [(PEN, (1, 1), (1, 1), (9, 9)), (PEN, (1, 1), (0, 0), (9, 9)), (PEN, (2, 9), (2, 2), (0, 1)),
+    found = [(SHARED, (1, 1), (3, 5), (-3, 4)), (SHARED, (2, 1), (3, 5), (20, 4)), (PEN, (1, 1), (1, 1), (9, 9)), (PEN, (1, 1), (0, 0), (9, 9)), (PEN, (2, 9), (2, 2), (0, 1)),
              (Drawing([]), (1, 1), (0, 0), (4, 4)), (Drawing([(0, 0, 3, 3)]), (1, 1), (1, 1), (1, 1))]
     for drawing, one, other in h.two_spots(seed, rounds_, 5, 3):
         if len(drawing) <= 5:
@@ -162,6 +166,32 @@ class Tables(unittest.TestCase):
         self.assertIs(r.is_need_table(*front, {**table, spare: ("block", 0, 0)}), False)
         self.assertIs(r.is_need_table(*front, {**table, (0, 7): first}), False)
 
+    def test_each_block_of_a_ring_is_followed(self):
+        for front in ((NESTED, (1, 1), (5, 5), (20, 20), 1), (SHARED, (1, 1), (3, 5), (20, 4), 0)):
+            table = r.need_table(*front)
+            if table is None:
+                continue
+            for lot in table:
+                less = {key: table[key] for key in table if key != lot}
+                self.assertIs(r.is_need_table(*front, less), False)
+        front = (NESTED, (1, 1), (5, 5), (20, 20), 1)
+        table = r.need_table(*front)
+        for lot in table:
+            if lot:
+                # A ring with a block of the lot shows nothing, though it parts the spots.
+                self.assertIs(r.is_need_table(*front, {**table, lot: table[()]}), False)
+                self.assertIn(lot[0], table[()][1])
+
+    def test_a_ring_is_no_need_where_a_block_bars(self):
+        ring = (0, 1, 3, 2)
+        covered = Drawing(list(PEN.blocks) + [(8, 8, 12, 12)])
+        self.assertIs(r.is_need_table(PEN, (1, 1), (1, 1), (9, 9), 0, {(): ("ring", ring)}), True)
+        self.assertIs(r.is_need_table(covered, (1, 1), (1, 1), (9, 9), 0, {(): ("ring", ring)}), False)
+        self.assertIs(r.is_need_table(covered, (1, 1), (1, 1), (9, 9), 0, {(): ("block", 1, 4)}), True)
+        self.assertIs(r.is_need_table(covered, (1, 1), (1, 1), (9, 9), 0, {(): ("block", 0, 4)}), False)
+        first = {(): ("block", 1, 4), (4,): ("ring", ring)}
+        self.assertIs(r.is_need_table(covered, (1, 1), (1, 1), (9, 9), 1, first), True)
+
     def test_any_value(self):
         front = (PEN, (1, 1), (1, 1), (9, 9), 0)
         ring = (0, 1, 3, 2)
@@ -170,6 +200,7 @@ class Tables(unittest.TestCase):
             {(): ["ring", ring]}, {(): ("ring", list(ring))}, {(): ("ring", (False, 1, 3, 2))}, {(): ("block", 0, 0)}, {},
             {(): None}, {(): ("ring", ring, 1)}, [((), ("ring", ring))], None, {0: ("ring", ring)}, {(): ("ring", ring), 0: 1},
             {(): ("ring", ring), (0,): ("ring", ring)}, {(): ("ring", None)}, {(): ()}, {(): "ring"},
+            {(): ("rings", ring)}, {(): (True, ring)}, {(): ("block", ring)},
         ])
         good = {(): ("block", 0, 0), (0,): ("block", 0, 1)}
         barred = (Drawing([(0, 0, 3, 3), (0, 0, 4, 3)]), (1, 1), (1, 1), (9, 9), 1)

@@ -328,6 +328,7 @@ class Ledgers(unittest.TestCase):
         loop = Program({"a": [("call", "a")]}, "a")
         self.assertIs(r.is_ledger(PEN, (1, 2), (3, 3), loop, {key: (("never",), None)}), True)
         h.never(self, lambda thing: r.is_ledger(PEN, (1, 2), (3, 3), loop, thing), [
+            {key: (("never",), None), ("a", (0, 3)): (("never",), None)}, {("a", (1, 1)): (("never",), None)},
             {key: (("never",), 0)}, {key: (("ends", (3, 3)), 0)}, {key: (("ends", (3, 3)), None)}, {key: (["never"], None)},
             {key: (("never", 0), None)}, {key: (("lost", "left"), 3)}, {key: (("never",), False)},
         ])

@@ -147,6 +147,12 @@ class Heights(unittest.TestCase):
             {0: [((0, 0), 0), ((0, 1), 1)]}, {0: {(0, 0): 0}}, {0: {**good[0], (1, 0): 0}}, {**good, 1: good[0]}, {1: good[0]},
             {0: {(0, 0): 0, (0, 1): "1"}}, {0: {(0, 0): 0, (0, 2): 1}}, {0: {(0, 0, 0): 0, (0, 1): 1}}, {0: {(0, 0): -1, (0, 1): 1}},
         ])
+        two = (Drawing([(0, 0, 1, 1), (9, 0, 10, 1)]), (1, 1), (2, 2), (-3, 0), 0)
+        first = {(0, 0): 0, (0, 1): 1, (1, 0): 0, (1, 1): 0}
+        second = {(0, 0): 0, (0, 1): 0, (1, 0): 0, (1, 1): 1}
+        self.assertIs(s.are_sheet_heights(*two, {0: first, 1: second}), True)
+        for pair in ((1, 0), (1, 1)):
+            self.assertIs(s.are_sheet_heights(*two, {0: {**first, pair: -1}, 1: second}), False)
         none = (Drawing([]), (1, 1), (2, 2), (-3, 0), 5)
         self.assertEqual(s.sheet_heights(*none), {})
         self.assertIs(s.are_sheet_heights(*none, {}), True)
