@@ -10,13 +10,17 @@ from gapstairs.rings import is_parting_of
 from gapstairs.sides import links_of, odd_ring
 
 
-def bars_and_links(drawing, body, one, other):
-    """What needs hang on: the bars ("block", k, i) of the two spots, and the links of all blocks."""
-    bars = [
+def bars_on(drawing, body, one, other):
+    """The list of the bars ("block", k, i) of the two spots."""
+    return [
         ("block", k, i) for k, spot in enumerate((one, other))
         for i, block in enumerate(drawing.blocks) if lies_in(spot, box_of(block, body))
     ]
-    return (bars, links_of(drawing, body, one, other))
+
+
+def bars_and_links(drawing, body, one, other):
+    """What needs hang on: the bars of the two spots, and the links of all blocks."""
+    return (bars_on(drawing, body, one, other), links_of(drawing, body, one, other))
 
 
 def need_of(known, lot):
@@ -99,7 +103,7 @@ def is_table_of(drawing, body, one, other, most, thing):
         return False
     if () not in thing:
         return False
-    bars = bars_and_links(drawing, body, one, other)[0]
+    bars = bars_on(drawing, body, one, other)
     for lot in thing:
         if not is_need_of(drawing, body, one, other, bars, lot, thing[lot]):
             return False

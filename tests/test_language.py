@@ -202,6 +202,8 @@ class Language(unittest.TestCase):
             self.assertNotIn(name, dir(builtins))
             self.assertNotIn(name, file.imported | file.classes | file.defined)
             self.assertFalse(name.startswith("__"))
+        if isinstance(node, ast.Attribute) and isinstance(node.ctx, ast.Store):
+            self.assertIsInstance(node.value, ast.Name)
         if isinstance(node, ast.Name) and name == "_":
             self.assertIsInstance(node.ctx, ast.Store)
         if isinstance(node, ast.FunctionDef) and name.startswith("__"):

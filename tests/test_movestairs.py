@@ -160,6 +160,12 @@ class Papers(unittest.TestCase):
             for most in (0, 1, 2, 3, 4, 999999999):
                 ways = m.short_table(one, *ends, most)
                 self.assertIs(m.is_short_table(one, *ends, most, ways), True)
+        # For all widths only one of the two corners between the spots will do.
+        block = Drawing([(2, 3, 4, 4), (9, 20, 10, 21)])
+        for ends in (((0, 0), (5, 6)), ((5, 6), (0, 0))):
+            self.assertEqual(m.short_table(block, *ends, 2)[(None, 3)], [ends[0], (5, 0), ends[1]])
+            turned = flipped_drawing(block), ends[0][::-1], ends[1][::-1], 2
+            self.assertEqual(m.short_table(*turned)[(3, None)], [turned[1], (0, 5), turned[2]])
         # Only by far to the right, or by far above, do all widths, or heights, get there.
         for drawing, ends in ((Drawing([(2, 3, 4, 4)]), ((0, 0), (0, 6))), (Drawing([(3, 2, 4, 4)]), ((0, 0), (6, 0)))):
             self.assertEqual(m.move_row(drawing, *ends)[2:], m.move_row(drawing, *ends)[2:3] + [stairs_between(drawing, *ends)])
