@@ -477,6 +477,19 @@ def two_spots(seed, rounds=20, most=5, span=4):
     return [(Drawing(blocks), one, other) for blocks, one, other in scenes]
 
 
+TIMES = 30000001
+
+
+def huge(drawing, *spots):
+    """The drawing and the spots with numbers of up to nine digits, of either sign."""
+    blocks = [tuple(TIMES * item for item in block) for block in drawing.blocks]
+    return (Drawing(blocks),) + tuple((TIMES * x, TIMES * y) for x, y in spots)
+
+
+def huge_stairs(steps):
+    return tuple(tuple(item and TIMES * item for item in one) for one in steps)
+
+
 def sizes_for(drawing, spots):
     """All bodies of the gap grid and some beyond it, found on their own way."""
     found = []

@@ -135,6 +135,12 @@ class Tables(unittest.TestCase):
             told = b.are_both(slot, one, other, thing, ways, bars)
             self.assertIs(told, thing == stairs)
 
+    def test_large_numbers(self):
+        for drawing, one, other in SCENES:
+            large = h.huge(drawing, one, other)
+            stairs = h.huge_stairs(stairs_between(drawing, one, other))
+            self.assertIs(b.are_both(*large, stairs, climb_table(*large), b.bar_table(*large)), True)
+
     def test_by_hand(self):
         self.assertEqual(b.bar_table(Drawing([]), (0, 0), (4, 4)), {})
         self.assertIs(b.is_bar_table(Drawing([]), (0, 0), (4, 4), {}), True)

@@ -35,6 +35,12 @@ class Detours(unittest.TestCase):
                     told[wanted] += 1
         self.assertGreater(min(told.values()), 150)
 
+    def test_large_numbers(self):
+        for drawing, one, other in h.two_spots(353, 8, 4):
+            for i in range(len(drawing)):
+                large, spot = h.huge(drawing, one)
+                self.assertEqual(d.loop_stairs(large, spot, i), h.huge_stairs(d.loop_stairs(drawing, one, i)))
+
     def test_by_hand(self):
         i = ISLAND.blocks.index((5, 5, 8, 8))
         self.assertEqual(d.loop_stairs(ISLAND, (1, 1), i), ((4, 4),))

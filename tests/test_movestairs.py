@@ -68,6 +68,17 @@ class MoveStairs(unittest.TestCase):
                 through = met(m.move_stairs(drawing, one, third, k), m.move_stairs(drawing, third, other, n))
                 self.assertTrue(inside(through, m.move_stairs(drawing, one, other, k + n)))
 
+    def test_large_numbers(self):
+        for drawing, one, other in SCENES[2:]:
+            row = m.move_row(drawing, one, other)
+            large = h.huge(drawing, one, other)
+            self.assertEqual(m.move_row(*large), [h.huge_stairs(stairs) for stairs in row])
+            if one != other:
+                for most in (1, 2, 3, 4):
+                    papers = m.short_table(*large, most), m.height_table(*large, most)
+                    stairs = h.huge_stairs(m.move_stairs(drawing, one, other, most))
+                    self.assertIs(m.are_move_papers(*large, most, stairs, *papers), True)
+
     def test_by_hand(self):
         none = Drawing([])
         self.assertEqual(m.move_row(none, (0, 0), (0, 0)), [ALL])

@@ -86,6 +86,16 @@ class Rims(unittest.TestCase):
         self.assertEqual(r.rim(PEN, (5, 4), (1, 1), "left"), [((1, 1), side) for side in ("down", "right", "up", "left")])
         self.assertEqual(r.rim_turn(PEN, (2, 1), (0, 6), "down"), -4)
 
+    def test_large_numbers(self):
+        for drawing, size, spot in scenes(512, 10, 5, 4):
+            large, place = h.huge(drawing, spot)
+            wide = (size[0] * h.TIMES, size[1] * h.TIMES)
+            for side in SIDES:
+                if touching(drawing, size, spot, side):
+                    wanted = [(h.huge(drawing, there)[1], held) for there, held in r.rim(drawing, size, spot, side)]
+                    self.assertEqual(r.rim(large, wide, place, side), wanted)
+                    self.assertEqual(r.rim_turn(large, wide, place, side), r.rim_turn(drawing, size, spot, side))
+
     def test_refused(self):
         good = [ONE, (1, 2), (-1, 1), "right"]
         h.refuse(self, r.rim, PARAMS, good)

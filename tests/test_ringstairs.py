@@ -61,6 +61,15 @@ class RingStairs(unittest.TestCase):
             endless = [[corner for corner in stairs if None in corner] for stairs in row]
             self.assertTrue(all(ends == endless[0] for ends in endless))
 
+    def test_large_numbers(self):
+        for drawing, one, other in SCENES:
+            row = r.ring_row(drawing, one, other)
+            large = h.huge(drawing, one, other)
+            self.assertEqual(r.ring_row(*large), [h.huge_stairs(stairs) for stairs in row])
+            if one != other:
+                self.assertIs(r.is_ring_table(*large, 4, r.ring_table(*large, 4)), True)
+                self.assertIs(r.is_sheet_table(*large, 3, r.sheet_table(*large, 3)), True)
+
     def test_by_hand(self):
         self.assertEqual(r.ring_row(Drawing([]), (0, 0), (5, 5)), [ALL])
         self.assertEqual(r.ring_row(PEN, (1, 1), (1, 1)), [((5, 4),)])

@@ -137,6 +137,14 @@ class Sure(unittest.TestCase):
         for drawing, spot, _ in scenes(557, 14, 1):
             for side in SIDES:
                 self.assertEqual(t.sure_stairs(drawing, spot, escape_program(side), side), stairs_out(drawing, spot))
+                large = h.huge(drawing, spot)
+                wanted = h.huge_stairs(stairs_out(drawing, spot))
+                self.assertEqual(t.sure_stairs(*large, escape_program(side), side), wanted)
+
+    def test_large_numbers(self):
+        for drawing, spot, program in scenes(558, 14, 2):
+            few = set(t.run_table(drawing, spot, program).values())
+            self.assertTrue(few <= set(t.run_table(*h.huge(drawing, spot), program).values()))
 
     def test_by_hand(self):
         self.assertEqual(t.sure_stairs(Drawing([]), (0, 0), NOTHING, (0, 0)), ((None, None),))

@@ -76,6 +76,15 @@ class TakeStairs(unittest.TestCase):
         self.assertEqual(t.take_stairs(NESTED, (5, 5), (20, 20), 1), ())
         self.assertEqual(t.take_stairs(NESTED, (5, 5), (20, 20), 2)[0], (5, None))
 
+    def test_large_numbers(self):
+        for drawing, one, other in SCENES:
+            row = t.take_row(drawing, one, other)
+            large = h.huge(drawing, one, other)
+            self.assertEqual(t.take_row(*large), [h.huge_stairs(stairs) for stairs in row])
+            self.assertEqual(t.trade_stairs(*large, 2, 1), h.huge_stairs(t.trade_stairs(drawing, one, other, 2, 1)))
+            self.assertIs(t.is_lot_table(*large, 1, t.lot_table(*large, 1)), True)
+            self.assertIs(t.are_need_tables(*large, 1, t.need_tables(*large, 1)), True)
+
     def test_facts_of_one_and_of_more(self):
         for drawing, one, other in SCENES:
             for first, second in ((1, 0), (1, 1), (2, 1)):
