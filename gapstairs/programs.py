@@ -54,12 +54,10 @@ def rows_within(row):
 
 def flat(rows):
     """The list of all rows, those within rows too."""
-    found = []
-    for row in rows:
-        found.append(row)
-        for inner in rows_within(row):
-            found.extend(flat(inner))
-    return found
+    return [
+        part for row in rows
+        for part in [row] + [deeper for inner in rows_within(row) for deeper in flat(inner)]
+    ]
 
 
 def are_procedures(thing):
