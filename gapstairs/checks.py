@@ -36,17 +36,19 @@ def is_lot(thing, many):
     return isinstance(thing, tuple) and all([is_index(i, many) for i in thing]) and is_rising(thing)
 
 
-def is_flat(thing):
-    """Whether it is a tuple of numbers and None."""
-    return isinstance(thing, tuple) and all([item is None or is_number(item) for item in thing])
+def is_plain(thing):
+    """Whether it is a number, None, or a tuple of such at any depth."""
+    if isinstance(thing, tuple):
+        return all([is_plain(item) for item in thing])
+    return thing is None or is_number(thing)
 
 
 def has_just_keys(thing, keys):
-    """Whether it is a dict with just these keys, which are flat tuples."""
+    """Whether it is a dict with just these keys, which are numbers, or tuples of numbers and None."""
     if not isinstance(thing, dict) or len(thing) != len(keys):
         return False
     # Keys are asked for their form first: True would be found where 1 stands.
-    return all([is_flat(key) and key in keys for key in thing])
+    return all([is_plain(key) and key in keys for key in thing])
 
 
 def check_spot(spot):

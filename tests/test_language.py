@@ -50,10 +50,22 @@ INTERFACE = {
     "programs": "Program flipped_program circular inlined unlooped escape_program",
     "runs": "run trail ledger is_ledger",
     "tables": "run_table parting_body alike_runs sure_stairs",
+    "progtexts": "program_text read_program",
+    "machines": "is_case behind feel feels stands machine is_machine least_machine",
+    "partings": "parting are_alike likeness is_likeness kinds kinds_within",
+    "manykinds": "kinds_of_all",
+    "doubts": "first_doubts answers is_aim is_done is_plan most_moves is_closed are_ranks shown",
+    "plans": "plan least_moves closed_table ranks least_senses program_of",
+    "sorting": "sorting_cases",
+    "floors": "House is_place house_room",
+    "lifts": "stations house_web house_stairs itineraries is_itinerary are_itineraries fences is_fence are_fences "
+             "are_house_papers",
+    "forms": "Form end_size still load_form form_parting least_loads repeated rounds endless rest",
 }
 METHODS = {
     "Web": "__init__ __eq__", "Drawing": "__init__ __eq__ __len__ __contains__",
     "Ground": "__init__ __eq__ __contains__ __or__ __and__ __sub__", "Program": "__init__ __eq__ __len__ __contains__",
+    "House": "__init__ __eq__", "Form": "__init__ __eq__ __mul__ __rmul__",
 }
 LIBRARY = {"itertools": {"combinations"}}
 CALLED = set("""len range enumerate zip min max sum abs sorted reversed int str bool list tuple dict set isinstance
@@ -179,7 +191,11 @@ class Language(unittest.TestCase):
 
     def look_at_function(self, file, node):
         self.assertLessEqual(node.end_lineno - node.lineno + 1, 40)
-        self.assertEqual(node.decorator_list + node.args.defaults + node.args.kwonlyargs, [])
+        self.assertEqual(node.decorator_list + node.args.kwonlyargs, [])
+        # Senses alone may be left out, and they are the last parameter.
+        defaults = [ast.unparse(value) for value in node.args.defaults]
+        self.assertEqual(defaults, ["SENSES"] if node.args.args[-1:] and defaults else [])
+        self.assertTrue(defaults == [] or node.args.args[-1].arg == "senses")
         self.assertIsInstance(file.parent[node], (ast.Module, ast.ClassDef))
 
     def test_what_is_not_used(self):
