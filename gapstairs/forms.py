@@ -95,6 +95,14 @@ def size_behind(least, by, size, times):
     return max(least + max(0, by) * (times - 1), size + by * times)
 
 
+def behind_rounds(form, body, times):
+    """What a body becomes in so many rounds."""
+    return (
+        size_behind(form.least[0], form.by[0], body[0], times),
+        size_behind(form.least[1], form.by[1], body[1], times),
+    )
+
+
 def size_ahead(least, by, size, times):
     """The least size that becomes the given size or more in so many rounds."""
     if times == 0:
@@ -298,7 +306,7 @@ def repeated_of(form, times):
     """repeated, for values that are surely such."""
     if times == 0:
         return still_at(form.start, ALL)
-    least = (size_behind(form.least[0], form.by[0], 1, times), size_behind(form.least[1], form.by[1], 1, times))
+    least = behind_rounds(form, (1, 1), times)
     by = (times * form.by[0], times * form.by[1])
     return Form(form.start, form.end, stairs_for_rounds(form, times), least, by)
 

@@ -3,13 +3,21 @@
 import copy
 import random
 
+from gapstairs.books import Book
+from gapstairs.desk import Desk
 from gapstairs.drawings import Drawing
+from gapstairs.floors import House
+from gapstairs.forms import Form
 from gapstairs.grounds import Ground
 from gapstairs.programs import Program
 from gapstairs.webs import Web
+from gapstairs.yard import Yard
 
 
 # --- values of every kind -------------------------------------------------------------------
+
+FORM = Form((0, (0, 0)), (0, (0, 0)), ((2, 3),), (1, 1), (0, 1))
+
 
 def deep(kind, levels=80):
     value = 1
@@ -55,6 +63,15 @@ def any_values():
         {"a": [["go", "left"]]}, {"A": []}, {"a": {}}, Program({"a": []}, "a"), [Program({"b": [("go", "up")]}, "b")],
         (("spot", 0), ("spot", 0)), (("left", 0), ("low", 0)), (("spot", False), ("spot", 0)), [("spot", 0), ("spot", 0)],
         ((), [(0, 0)]), {(1, 1): ((), [(0, 0)])}, {(1, 1): {(): ("block", 0, 0)}}, {(1, 1): ("block", 0, 0)},
+        ((1, 2), ()), ((True, 2), ()), [((1, 1), (0, 0)), ((1, 2), ())], (("left",), (0,) * 12), ((("left",), (0,) * 12),),
+        (("left", "up"), ("up", "left"), ()), [("slide", "left", "up")], ("lost",), [()], ((),), [[]], ("up", "left"),
+        House((Drawing([]),), ()), FORM, [FORM], (FORM, FORM), Book([FORM]), Yard(Drawing([])), Desk(Yard(Drawing([]))),
+        (0, (0, 0)), (False, (0, 0)), (0, [0, 0]), [(0, (0, 0)), (0, (1, 1))], {(0, (0, 0)): [(1, 1)]}, {(False, (0, 0)): [(1, 1)]},
+        [("to", (0, (0, 0)))], [("load", 1, -1)], [("load", True, 1)], [("times", 2, [("load", 0, 0)])], [("times", True, [])],
+        [("walk", [(0, 0)])], [("ride", 0)], ("walk", ((0, 0),)), (((0, (0, 0)),), {}, {}), {0: ("stairs",)},
+        ((0, 0), (), ((),)), ((0, 0), [], [()]), (Drawing([]), ((0, 0), (), ((),))), [(Drawing([]), ((0, 0), (), ((),)))],
+        ((0, 0), (1, 1), (), ((None, None),)), [((0, 0), (1, 1), (), ((None, None),))], ("put", [0, 0, 1, 1]), ("drop", "A"),
+        "undo", "begin", "none", "2:-,5:3", "gate", "first a\nto a\ndone\n", [[(0, 0)]], ((((0, 0),)),), [[(0, 0), (0, 1)]],
     ]
 
 

@@ -61,17 +61,31 @@ INTERFACE = {
     "lifts": "stations house_web house_stairs itineraries is_itinerary are_itineraries fences is_fence are_fences "
              "are_house_papers",
     "forms": "Form end_size still load_form form_parting least_loads repeated rounds endless rest",
+    "journeys": "is_journey journey_form stopped",
+    "books": "Book row_form reached rows_reached is_closed_table able able_papers are_able_papers",
+    "seasons": "lives passage is_passage tide is_tide stairs_through through_table tide_table are_season_papers",
+    "slides": "displaced slide_calendar stairs_riding stairs_always stairs_once",
+    "records": "record agrees agreeing bound base sure doubtful",
+    "rebuilding": "keeps breach rebuilding is_rebuilding moat is_moat",
+    "yard": "Yard",
+    "deskwords": "stairs_text read_stairs deed_text read_deed",
+    "desk": "Desk",
+    "yardtexts": "yard_text read_yard",
 }
 METHODS = {
     "Web": "__init__ __eq__", "Drawing": "__init__ __eq__ __len__ __contains__",
     "Ground": "__init__ __eq__ __contains__ __or__ __and__ __sub__", "Program": "__init__ __eq__ __len__ __contains__",
-    "House": "__init__ __eq__", "Form": "__init__ __eq__ __mul__ __rmul__",
+    "House": "__init__ __eq__", "Form": "__init__ __eq__ __mul__ __rmul__", "Book": "__init__ __eq__",
+    "Yard": "__init__ __eq__ __len__ name drop put take slide promise release note attempt undo redo log drawing names "
+            "promises notes calendar stairs_of sure lived plan changed",
+    "Desk": "__init__ say",
 }
 LIBRARY = {"itertools": {"combinations"}}
 CALLED = set("""len range enumerate zip min max sum abs sorted reversed int str bool list tuple dict set isinstance
 ord repr any all divmod super""".split())
 METHODS_OF_VALUES = set("""append clear copy count endswith extend find get index insert items join keys pop remove
-replace reverse setdefault split startswith strip update values""".split())
+replace reverse setdefault split startswith strip update values bit_length""".split())
+METHODS_OF_YARDS = set("undo redo log calendar stairs_of sure lived changed".split())
 CHANGING = {"append", "clear", "extend", "insert", "pop", "remove", "reverse", "setdefault", "update"}
 VIEWS = {"zip", "enumerate", "reversed", "range", "items", "keys", "values", "combinations"}
 TAKING = {"list", "tuple", "dict", "sorted", "sum", "enumerate", "zip", "min", "max"}
@@ -79,7 +93,7 @@ BARRED_WORDS = set("""type typing typing_extensions enum Enum IntEnum StrEnum Fl
 namedtuple NamedTuple TypedDict TYPE_CHECKING abstractmethod dataclass overload contextmanager""".split())
 BARRED_NAMES = set("register mro elements open input law version_info with_traceback add_note".split())
 FORBIDDEN = (
-    ast.GeneratorExp, ast.SetComp, ast.Set, ast.Yield, ast.YieldFrom, ast.Global, ast.Nonlocal, ast.With, ast.Try,
+    ast.GeneratorExp, ast.SetComp, ast.Set, ast.Yield, ast.YieldFrom, ast.Global, ast.Nonlocal, ast.With,
     ast.AsyncFunctionDef, ast.Await, ast.NamedExpr, ast.Starred, ast.Pow, ast.Div, ast.AnnAssign, ast.Delete, ast.Match,
 )
 
@@ -231,7 +245,7 @@ class Language(unittest.TestCase):
     def look_at_call(self, file, node):
         words = [word.arg for word in node.keywords]
         if isinstance(node.func, ast.Attribute):
-            self.assertIn(node.func.attr, METHODS_OF_VALUES | {"__init__"})
+            self.assertIn(node.func.attr, METHODS_OF_VALUES | METHODS_OF_YARDS | {"__init__"})
             self.assertEqual(words, [])
         elif node.func.id not in file.imported | file.defined | file.parameters:
             self.assertIn(node.func.id, CALLED)
@@ -279,6 +293,21 @@ class Language(unittest.TestCase):
         for operator, right in zip(node.ops, node.comparators):
             if isinstance(operator, (ast.Is, ast.IsNot)):
                 self.assertIsInstance(right, ast.Constant)
+
+    def test_what_is_caught(self):
+        self.each(ast.Try, self.look_at_try)
+
+    def look_at_try(self, file, node):
+        self.assertEqual(node.orelse + node.finalbody, [])
+        for handler in node.handlers:
+            self.assertIn(handler.type.id, FILES["errors"].classes)
+
+    def test_no_name_is_a_method_and_an_attribute(self):
+        classes = [n for file in FILES.values() for n in file.tree.body if isinstance(n, ast.ClassDef)]
+        methods = {n.name for one in classes for n in one.body if isinstance(n, ast.FunctionDef)}
+        stored = {n.attr for file in FILES.values() for n in file.nodes
+                  if isinstance(n, ast.Attribute) and isinstance(n.ctx, ast.Store)}
+        self.assertEqual(methods & stored, set())
 
     def look_at_raise(self, file, node):
         self.assertTrue(isinstance(node.exc, ast.Call) and node.exc.func.id in FILES["errors"].classes)
