@@ -4,7 +4,7 @@ Row 2k is upright line k, row 2k + 1 all that is between it and the next one; so
 """
 
 from gapstairs.chambers import with_ends
-from gapstairs.fits import box_of, is_free
+from gapstairs.fits import box_of
 
 
 class HalfGrid:
@@ -52,11 +52,6 @@ def rows_of(grid, spots):
     return rows
 
 
-def rows_from(grid, drawing, spot):
-    """The rows of just this node, of none if the body does not fit there."""
-    return rows_of(grid, [spot] if is_free(drawing, grid.body, spot) else [])
-
-
 def shared_rows(one, other):
     """The rows of the places of both."""
     return [row & further for row, further in zip(one, other)]
@@ -79,7 +74,7 @@ def filled_row(mask, seed):
 
 
 def flooded(free, seeds):
-    """The rows of all free places that are reached from the seeds, which surely are free."""
+    """The rows of all free places that are reached from those of the seeds that are free."""
     reach = [0] * len(free)
     waiting = [(k, seed) for k, seed in enumerate(seeds) if seed > 0]
     while waiting:

@@ -6,10 +6,9 @@ from gapstairs.checks import check_spot, has_just_keys, is_list, is_spot_list
 from gapstairs.climbs import by_far
 from gapstairs.drawings import Drawing
 from gapstairs.errors import BadCalendar
-from gapstairs.fits import is_free
 from gapstairs.gaps import sizes_among, stairs_on
 from gapstairs.halfgrids import (
-    HalfGrid, flooded, free_rows, has_node, is_node, node_rows, nodes_of, rows_from, rows_of, shared_rows, some_node,
+    HalfGrid, flooded, free_rows, has_node, is_node, node_rows, nodes_of, rows_of, shared_rows, some_node,
 )
 from gapstairs.rooms import stairs_along
 from gapstairs.stairs import has, is_stairs, notches_of
@@ -52,7 +51,7 @@ class Seasons:
         self.grid = grid
         self.other = other
         self.free = [free_rows(grid, drawing) for drawing in calendar]
-        reached = rows_from(grid, calendar[0], one)
+        reached = rows_of(grid, [one])
         found = []
         for free in self.free:
             reached = flooded(free, shared_rows(reached, free))
@@ -91,9 +90,9 @@ def passage_for(calendar, body, one, other):
     return [find_way(drawing, body, start, end) for drawing, start, end in zip(calendar, starts, ends)]
 
 
-def are_joined(calendar, one, other, ways):
-    """Whether lists of spots, one for each Drawing, lead from one to other, each from where the one ahead ends."""
-    if len(ways) != len(calendar) or ways[0][0] != one or ways[-1][-1] != other:
+def are_joined(one, other, ways):
+    """Whether lists of spots lead from one to other, each from where the one ahead ends."""
+    if ways[0][0] != one or ways[-1][-1] != other:
         return False
     return all([ways[k][-1] == ways[k + 1][0] for k in range(len(ways) - 1)])
 
@@ -104,7 +103,7 @@ def is_passage_of(calendar, body, one, other, thing):
         return False
     if not all([is_way_of(drawing, body, way) for drawing, way in zip(calendar, thing)]):
         return False
-    return are_joined(calendar, one, other, thing)
+    return are_joined(one, other, thing)
 
 
 def tide_of(calendar, body, one, other):
@@ -115,25 +114,21 @@ def tide_of(calendar, body, one, other):
     return [nodes_of(seasons.grid, rows) for rows in seasons.reached]
 
 
-def are_nodes(grid, drawing, body, thing):
-    """Whether any value is a list of different nodes at which the body fits."""
-    if not is_spot_list(thing) or len(set(thing)) != len(thing):
-        return False
-    return all([is_node(grid, spot) and is_free(drawing, body, spot) for spot in thing])
+def are_nodes(grid, thing):
+    """Whether any value is a list of different nodes."""
+    return is_spot_list(thing) and len(set(thing)) == len(thing) and all([is_node(grid, spot) for spot in thing])
 
 
 def is_tide_of(calendar, body, one, other, thing):
     """is_tide, for values other than thing that are surely such."""
     grid = HalfGrid(calendar, body, [one, other])
-    if not is_list(thing) or len(thing) != len(calendar):
+    if not is_list(thing) or len(thing) != len(calendar) or not all([are_nodes(grid, nodes) for nodes in thing]):
         return False
-    if not all([are_nodes(grid, drawing, body, nodes) for drawing, nodes in zip(calendar, thing)]):
-        return False
-    before = rows_from(grid, calendar[0], one)
+    before = rows_of(grid, [one])
     for drawing, nodes in zip(calendar, thing):
         free = free_rows(grid, drawing)
         rows = rows_of(grid, nodes)
-        # What comes from the season ahead is there, and nothing next to what is there is missing.
+        # What comes from the season ahead is there; all fits, and nothing next to what is there is missing.
         ahead = shared_rows(before, free)
         if shared_rows(ahead, rows) != ahead or node_rows(grid, flooded(free, rows)) != rows:
             return False
@@ -179,7 +174,7 @@ def is_serving(calendar, corner, one, other, thing):
         return False
     if not all([has(stairs_along(drawing, way), corner) for drawing, way in zip(calendar, thing)]):
         return False
-    return are_joined(calendar, one, other, thing)
+    return are_joined(one, other, thing)
 
 
 def lives(calendar, body, one, other):

@@ -154,7 +154,7 @@ class Books(unittest.TestCase):
         body = (1, 1)
         self.assertEqual(table, {PLACES[0]: [(1, 1)], PLACES[1]: [(2, 1)]})
         for near in (list(table.items()), {**table, 1: [(1, 1)]}, {**table, (0, (0, True)): [(1, 1)]}, {**table, PLACES[2]: []},
-                     {**table, PLACES[2]: [(1, 1), (1, 1)]}, {**table, PLACES[2]: [(1, True)]}, {**table, PLACES[2]: [[1, 1]]},
+                     {**table, PLACES[2]: [(1, 1), (1, 1)]}, {**table, PLACES[2]: [(1, True)]}, {**table, PLACES[2]: [(9, 9), (0, 5)]}, {**table, PLACES[2]: [[1, 1]]},
                      {**table, PLACES[2]: {(1, 1): 1}}, {**table, (True, (0, 0)): [(1, 1)]}, {**table, (-1, (0, 0)): [(1, 1)]},
                      {PLACES[0]: [(1, 1)]}, {PLACES[1]: [(2, 1)]}, {}, {**table, PLACES[0]: [(2, 1)]}, {**table, PLACES[0]: (1, 1)}):
             self.assertIs(s.is_closed_table(SMALL, PLACES[0], body, near), False)

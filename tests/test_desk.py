@@ -47,7 +47,7 @@ class Desks(unittest.TestCase):
         for line, told in [
                 ("undo", "refused"), ("changed", "nothing"), ("name inn 2 2", "done"), ("name inn 3 3", "refused"), ("name out 9 2", "done"),
                 ("stairs inn out", "4:2"), ("stairs out inn", "4:2"), ("stairs out out", "-:-"), ("stairs inn no", "refused"), ("stairs inn", "what"),
-                ("stairs inn out inn", "what"), ("stairs Inn out", "what"), ("sure inn out", "perhaps"), ("lived inn out", "4:2"), ("put 6 4 7 5", "done"),
+                ("stairs inn out inn", "what"), ("stairs Inn out", "what"), ("stairs inn Out", "what"), ("sure inn o1", "what"), ("sure inn out", "perhaps"), ("lived inn out", "4:2"), ("put 6 4 7 5", "done"),
                 ("changed", "inn out 4:2 to 4:1"), ("lived inn out", "4:2"), ("promise inn out none 4:2", "done"), ("promise out inn 1:1 4:2", "done"),
                 ("put 6 0 7 7", "refused"), ("take 6 4 7 5", "done"), ("changed", "inn out 4:1 to 4:2"), ("attempt name mid 3 3 ; drop no", "refused"),
                 ("name mid 3 3", "done"), ("put 6 0 7 5", "done"), ("changed", "inn out 4:2 to 4:1; mid out 3:2 to 3:1"), ("undo", "done"),

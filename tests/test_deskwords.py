@@ -187,7 +187,9 @@ class Words(unittest.TestCase):
                       ("note", "a", (), [()]), ("note", "a", (["go", "up"],), ((), ())), ("note", "a", (), ([],)), ("note", "a", (), ((), ())),
                       ("attempt", [("drop", "a")]), ("attempt", ()), ("attempt", (("attempt", (("drop", "a"),)),)), ("attempt", (["drop", "a"],)),
                       ("promise", "a", "a", (), ()), ("promise", "a", "b", ALL, ()), ("promise", "a", "b", [], ()), ("release", "a", "a"),
-                      ("undo",), ("redo",), (), ("begin", (0, 0, 1, 1))):
+                      ("undo",), ("redo",), (), ("begin", (0, 0, 1, 1)), ("put", (0, 0, 1, 10 ** 9)), ("take", (-10 ** 9, 0, 1, 1)),
+                      ("slide", (-10 ** 9, 0, 1, 1), "up", 1), ("name", "a", (10 ** 9, 0)), ("name", "a", (0, -10 ** 9)), ("name", "a", (0, 10 ** 9)),
+                      ("name", "a", (-10 ** 9, 0)), ("promise", "a", "b", (), ((10 ** 9, 1),)), ("promise", "a", "b", ((1, 10 ** 9),), ALL)):
             h.fails(self, BadDeed, s.deed_text, thing)
         self.assertTrue(dice)
 

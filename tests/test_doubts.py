@@ -194,7 +194,9 @@ class Doubts(unittest.TestCase):
                 self.assertIs(h.ask(self, d.are_ranks, NAMES, [drawing, cases, aim, tuple(table), senses]), True)
                 firsts = list(web.firsts.values())
                 for near in (table, table[1:], [(doubt, number + 1) for doubt, number in table],
-                             [(doubt, max(1, number - 1)) for doubt, number in table], table[:2], table + table[:1]):
+                             [(doubt, max(1, number - 1)) for doubt, number in table], table[:2], table + table[:1],
+                             self.one_other(dice, table, 1), self.one_other(dice, table, 1), self.one_other(dice, table, -1), [
+                                 (doubt, 2) for doubt, _ in table[:2]]):
                     right = self.are_ranks(drawing, cases, aim, near, senses)
                     self.assertIs(d.are_ranks(drawing, cases, aim, tuple(near), senses), right)
                     told[right] = told.get(right, 0) + 1
@@ -208,6 +210,11 @@ class Doubts(unittest.TestCase):
                     if web.fewest() is not None:
                         self.assertLessEqual(shown, web.fewest())
         self.assertTrue(told[True] > 30 and told[False] > 30, told)
+
+    def one_other(self, dice, table, by):
+        """The table with the number of one of its pairs greater, or less."""
+        k = dice.randrange(len(table) + 1)
+        return [(doubt, max(1, number + by * (j == k))) for j, (doubt, number) in enumerate(table)]
 
     def are_ranks(self, drawing, cases, aim, table, senses):
         if len({doubt for doubt, _ in table}) != len(table) or any(f.done(aim, doubt) for doubt, _ in table):
@@ -233,6 +240,9 @@ class Doubts(unittest.TestCase):
             self.assertIs(d.are_ranks(f.BLOCK, f.BY_HAND, FAR, ranks), True)
             self.assertEqual(d.shown(f.BLOCK, f.BY_HAND, FAR, ranks), number)
         self.assertEqual(d.shown(f.BLOCK, f.BY_HAND, FAR, ((((1, (4, 4)),), 1),)), 0)
+        for number in (0, -1, True, None, "1", (1,)):
+            h.never(self, lambda thing: d.are_ranks(f.BLOCK, f.BY_HAND, FAR, thing), [
+                tuple((doubt, number) for doubt in table), ((table[0], number),), tuple((doubt, 1) for doubt in table[1:]) + ((table[0], number),)])
         one = ((((1, (-3, 1)),), 1),)
         self.assertIs(d.are_ranks(f.BLOCK, f.BY_HAND, FAR, one), True)
         for near in values_like(one):
@@ -247,6 +257,10 @@ class Doubts(unittest.TestCase):
                 self.assertIs(d.is_plan(f.BLOCK, f.BY_HAND, aim, value), h.same(value, BY_HAND) and aim == BOX, value)
                 self.assertIs(d.is_closed(f.BLOCK, f.BY_HAND, aim, value), False)
                 self.assertIs(d.are_ranks(f.BLOCK, f.BY_HAND, aim, value), value == ())
+        for box in ((0, 0, 1, 1, 1), (0, 5, 1, 1), (5, 0, 1, 1), (0, 0, 1), [0, 0, 1, 1], (0, 0, True, 1), (0, 0, 1, None)):
+            self.assertIs(d.is_aim([1], ("reach", (box,))), False)
+            self.assertIs(d.is_aim([1, 2], ("reach", ((0, 0, 1, 1), box))), False)
+        self.assertIs(d.is_aim([1, 2], ("reach", ((0, 0, 0, 0), (3, -1, 3, -1)))), True)
         for aim in (TELL, BOX):
             for near in values_like(aim):
                 self.assertIs(d.is_aim(f.BY_HAND, near), f.aim_for(2)(near), near)

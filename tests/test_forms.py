@@ -216,6 +216,22 @@ class Forms(unittest.TestCase):
                 seen[(many == 60, end is None)] = True
         self.assertEqual(len(seen), 3, seen)
 
+    def test_long_rounds(self):
+        # One size grows while the other one falls: each round may bar what no other round bars.
+        dice = random.Random(1029)
+        corners = {}
+        for _ in range(150):
+            grows, falls = dice.randint(1, 4), -dice.randint(1, 4)
+            by = dice.choice([(grows, falls), (falls, grows)])
+            one = s.Form(HERE, HERE, h.random_stairs(dice, 18), (dice.randint(1, 4), dice.randint(1, 4)), by)
+            for times in (2, 3, 6, 30):
+                many = s.repeated(one, times)
+                for body in h.bodies_to(20):
+                    done, last = walked(one, body, times)
+                    self.assertEqual(after(told(many), body), last if done == times else None, (told(one), times))
+                corners[len(many.stairs)] = True
+        self.assertTrue({0, 1, 2, 3, 4, 5} <= set(corners), corners)
+
     def test_long_ways_round(self):
         # Nine digits: nothing goes round one by one.
         far = 10 ** 9 - 1

@@ -190,7 +190,10 @@ class Lifts(unittest.TestCase):
 
     def changed_fences(self, house, body, one, other, fence):
         lot, bars, stuck = fence
-        near = [[lot, bars, stuck], (list(lot), bars, stuck), (lot, bars), (lot[::-1] + lot[:1], bars, stuck), (lot, [], stuck),
+        near = [(thing, bars, stuck) for thing in (None, 1, "lot", {}, (None,), lot + (None,), lot[1:], lot + ((0, (777, 777)),), lot + lot, ([one],))]
+        if lot[0][0] < 2:
+            near.append((((bool(lot[0][0]), lot[0][1]),) + lot[1:], bars, stuck))
+        near += [[lot, bars, stuck], (list(lot), bars, stuck), (lot, bars), (lot[::-1] + lot[:1], bars, stuck), (lot, [], stuck),
                 (lot, bars, []), (lot + (other,), bars, stuck), (lot, {**bars, (one, other): 1, (other, one): 1}, stuck),
                 (lot, bars, {**stuck, 9: ("stairs",)}), (lot, {**bars, True: 1}, stuck), (lot, bars, {**stuck, None: 1})]
         for key in bars:
@@ -198,7 +201,8 @@ class Lifts(unittest.TestCase):
             near.append((lot, {**bars, key: ("block", 5, 5)}, stuck))
         for n in stuck:
             near.append((lot, bars, {k: v for k, v in stuck.items() if k != n}))
-            for told in (("stair",), ["stairs"], "stairs", (), ("block", 2, 0), ("block", 0), ("block", 0, 12), ("block", 0, -1)):
+            for told in (None, 5, {}, ("stairs", 1), ("rock",) + stuck[n][1:] if len(stuck[n]) == 3 else ("block",), stuck[n] + (0,),
+                         ("stair",), ["stairs"], "stairs", (), ("block", 2, 0), ("block", 0), ("block", 0, 12), ("block", 0, -1)):
                 near.append((lot, bars, {**stuck, n: told}))
             told = stuck[n]
             if told[0] == "block":
@@ -245,6 +249,15 @@ class Lifts(unittest.TestCase):
         twice = House((pen,), (((0, (2, 2)), (0, (20, 2)), ((1, 2),)),) * 2)
         self.assertEqual(s.house_stairs(twice, one, other), ((1, 2),))
         self.assertEqual(sorted(s.fences(twice, one, other)[(2, 1)][2]), [0, 1])
+        legs = s.itineraries(twice, one, other)[(1, 2)]
+        self.assertEqual([kind for kind, _ in legs], ["walk", "ride", "walk"])
+        self.assertIs(s.is_itinerary(twice, (1, 2), one, other, legs), True)
+        # Where it can be walked and ridden, either does; who is too great to walk rides.
+        low = House((Drawing(h.pen(-20, -1, 40, 21) + [(3, 2, 4, 20)]),), (((0, (0, 0)), (0, (9, 0)), ((None, 5),)),))
+        ends = ((0, (0, 0)), (0, (9, 0)))
+        self.assertEqual(s.house_stairs(low, *ends), ((3, 5), (30, 2)))
+        self.assertEqual([[kind for kind, _ in legs] for legs in s.itineraries(low, *ends).values()], [["ride"], ["walk"]])
+        self.assertIs(s.are_itineraries(low, *ends, s.itineraries(low, *ends)), True)
         self.assertEqual(s.house_stairs(twice, (0, (0, 0)), (0, (0, 0))), ())
         self.assertEqual(s.itineraries(twice, (0, (0, 0)), (0, (0, 0))), {})
         self.assertEqual(s.itineraries(twice, one, one), {(6, 6): []})

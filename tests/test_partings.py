@@ -4,7 +4,7 @@ import unittest
 from gapstairs import partings as p
 from gapstairs.drawings import Drawing
 from gapstairs.errors import BadCase, BadCases, BadDrawing, BadNumber, BadSenses
-from gapstairs.machines import least_machine, machine
+from gapstairs.machines import MOVES, behind, least_machine, machine
 from gapstairs.runs import run
 from tests import feeling as f
 from tests import helpers as h
@@ -75,6 +75,13 @@ class Partings(unittest.TestCase):
             pairs = p.likeness(drawing, one, other, senses)
             if pairs is None:
                 self.assertIs(p.is_likeness(drawing, one, other, ((one[1], other[1]),), senses), False)
+                # All pairs that come, though not all of them feel the same.
+                met = [(one[1], other[1])]
+                for here, there in met:
+                    for move in MOVES:
+                        pair = (behind(drawing, (one[0], here), move)[1], behind(drawing, (other[0], there), move)[1])
+                        met += [pair] if pair not in met else []
+                self.assertIs(p.is_likeness(drawing, one, other, tuple(met), senses), False)
                 continue
             extra = p.likeness(drawing, (one[0], ()), (other[0], ()), senses)
             mixed = list(pairs) + [pair for pair in extra if pair not in pairs]

@@ -190,6 +190,26 @@ class ProgramTexts(unittest.TestCase):
         self.wrong("first a\nto a\nwhile up\nelse\nend\ndone", 3)
         self.wrong("first a\nto a\nwhile up\ndone", 3)
         self.wrong("first a\nto a\nend\ndone", 2)
+        for line in ("fly left", "left", "go north", "go left up", "slide left", "slide north up", "slide left up up", "slide up down", "call",
+                     "call a a", "if", "if north", "if up up", "while", "while north", "go  left", "", "done a", "else", "end done", "first a", "to b"):
+            self.wrong("first a\nto a\n" + line + "\ndone", 2)
+        for line in ("else", "done", "end end", "else else", "end up", "done done"):
+            self.wrong("first a\nto a\nwhile up\n" + line + "\nend\ndone", 3)
+        for line in ("end", "done", "else up", "end end"):
+            self.wrong("first a\nto a\nif up\n" + line + "\nend\ndone", 3)
+        for line in ("else", "done", "end end"):
+            self.wrong("first a\nto a\nif up\nelse\n" + line + "\nend\ndone", 4)
+
+    def test_procedures_called_like_words(self):
+        words = ["call", "done", "else", "end", "first", "go", "if", "slide", "to", "while"]
+        rows = [("call", word) for word in words]
+        self.there_and_back(Program({word: rows + [("if", "up", rows, rows)] for word in words}, "done"))
+
+    def test_names_within_other_rows(self):
+        names = [f"p{k:02}" for k in range(99)]
+        head = "first p00\n" + "".join(f"to {name}\ndone\n" for name in names[:98]) + "to p98\nif up\nwhile left\n"
+        self.there_and_back(Program({name: [("if", "up", [("while", "left", [("call", "p00")])], [])] for name in names}, "p00"))
+        self.wrong(head + "call p99\nend\nelse\nend\ndone", 1 + 2 * 98 + 3)
 
     def test_wrong_inputs(self):
         h.refuse(self, t.program_text, [PROGRAM], [escape_program("up")])

@@ -224,6 +224,8 @@ class Rebuilding(unittest.TestCase):
 
     def kept_and_many(self):
         shut = ((2, 2), (9, 2), (), ())
+        twelve = Drawing(PEN[1:] + [(20 + k, 0, 21 + k, 1) for k in range(8)])
+        self.assertEqual(len(s.rebuilding(Drawing(PEN[:1]), twelve, [])), 13)
         many = Drawing(PEN + [(20 + k, 0, 21 + k, 1) for k in range(8)])
         more = Drawing(PEN + [(20 + k, 5, 21 + k, 6) for k in range(8)])
         for function, rest in ((s.rebuilding, ()), (s.moat, ()), (s.is_rebuilding, (1,)), (s.is_moat, (1,))):

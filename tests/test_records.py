@@ -74,11 +74,26 @@ def patches_of(held):
     return found
 
 
+def stopped_by_holes(dice, body):
+    """A note of a wall with a hole in it, at which bodies are stopped or not: its sizes agree in parts."""
+    gap = dice.randint(2, 7)
+    wall = [(-9, -30, 0, 0), (-9, gap + 1, 0, 30), (-9, -30, -4, 30)]
+    side, turned = ("left", False) if dice.random() < 0.6 else ("down", True)
+    drawing = Drawing([(b, a, d, c) for a, b, c, d in wall] if turned else wall)
+    return (drawing, s.record(drawing, body, (1, 5) if turned else (5, 1), [("go", side)] * dice.randint(1, 2)))
+
+
 def random_notes(dice, many, span=6):
     """Notes of one body, for the most part."""
     body = (dice.randint(1, 4), dice.randint(1, 4))
     notes = []
     while len(notes) < many:
+        if dice.random() < 0.06:
+            notes.append((PEN, ((1, 1), (), (("right",),))))
+            continue
+        if dice.random() < 0.4:
+            notes.append(stopped_by_holes(dice, body if dice.random() < 0.8 else (9, 9)))
+            continue
         drawing = Drawing(h.random_blocks(dice, dice.randint(0, 4), span, 3)) if dice.random() < 0.7 else PEN
         spot = (dice.randint(-span, span), dice.randint(-span, span)) if drawing != PEN else (dice.randint(1, 3), dice.randint(1, 3))
         teller = body if dice.random() < 0.9 else (dice.randint(1, 4), dice.randint(1, 4))
@@ -114,10 +129,12 @@ class Records(unittest.TestCase):
             held = {body for body in h.bodies_to(FAR) if agrees(notes, body)}
             told = h.ask(self, s.agreeing, ["notes"], [notes])
             self.assertTrue(h.same(told, patches_of(held)), (told, patches_of(held)))
+            for body in h.bodies_to(6):
+                self.assertIs(s.agrees(notes, body), body in held)
             self.assertEqual(told, sorted(told, key=lambda patch: patch[0]))
             self.bounds(dice, notes, held, told)
             sizes[min(len(told), 3)] = True
-        self.assertEqual(len(sizes), 4)
+        self.assertEqual(len(sizes), 4, sizes)
 
     def bounds(self, dice, notes, held, told):
         bound, base = h.ask(self, s.bound, ["notes"], [notes]), h.ask(self, s.base, ["notes"], [notes])
@@ -125,7 +142,7 @@ class Records(unittest.TestCase):
         for body in h.bodies_to(12):
             self.assertIs(h.stairs_has(bound, body), any(a >= body[0] and b >= body[1] for a, b in held))
             self.assertIs(h.stairs_has(base, body), not any(a <= body[0] and b <= body[1] for a, b in held))
-        for stairs in [(), ALL, bound, base, h.random_stairs(dice, 5), h.random_stairs(dice, 9), h.random_stairs(dice, 3)]:
+        for stairs in [(), ALL, bound, base, h.random_stairs(dice, 5), h.random_stairs(dice, 9)] + [(least,) for least, _ in told]:
             if not held:
                 h.fails(self, NoBody, s.sure, notes, stairs)
                 h.fails(self, NoBody, s.doubtful, notes, stairs)
@@ -192,7 +209,8 @@ class Records(unittest.TestCase):
                      (drawing, (spot, (("up",),), felt)), (drawing, (spot, moves, felt[:1])), (drawing, (spot, moves, felt + felt[:1])),
                      (drawing, (spot, moves, (felt[0], ["left"]))), (drawing, (spot, moves, (felt[0], ("up", "left")))),
                      (drawing, (spot, moves, (felt[0], "left"))), (drawing, (spot, dict(enumerate(moves)), felt)), (drawing, (spot, (), ())),
-                     (drawing, ((1, True), moves, felt)), (drawing, (spot, moves, (felt[0], ("left", "left")))), (drawing, good[0][1], 1)):
+                     (drawing, ((1, True), moves, felt)), (drawing, (spot, moves, (felt[0], ("left", "left")))), (drawing, good[0][1] + (1,)),
+                     (drawing, (spot, moves, {felt[0]: 0, felt[1]: 1})), (drawing, (spot, (), {(): 0})), (drawing, good[0][1], 1)):
             h.fails(self, BadNotes, s.agreeing, [note])
             h.fails(self, BadNotes, s.sure, good + [note], None)
         s.agreeing(good * 12)

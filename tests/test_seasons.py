@@ -96,7 +96,7 @@ def is_tide(calendar, body, one, other, lists):
 
 
 def is_passage(calendar, body, one, other, ways):
-    if len(ways) != len(calendar) or not all(is_way(drawing, body, way) for drawing, way in zip(calendar, ways)):
+    if len(ways) != len(calendar) or [] in ways or not all(is_way(drawing, body, way) for drawing, way in zip(calendar, ways)):
         return False
     return ways[0][0] == one and ways[-1][-1] == other and all(a[-1] == b[0] for a, b in zip(ways, ways[1:]))
 
@@ -132,6 +132,11 @@ class Seasons(unittest.TestCase):
                 way, tide = s.passage(*values), s.tide(*values)
                 near = [way, tuple(tuple(part) for part in way), way[:-1], way + way[-1:], [list(part[::-1]) for part in way[::-1]],
                         [part[:1] for part in way], [part + part[-1:] for part in way], [tuple(part) for part in way]] if way else []
+                if way:
+                    k = dice.randrange(len(way))
+                    near += [[way[0][1:] or way[0]] + way[1:], way[:-1] + [way[-1][:-1] or way[-1]], [[way[0][-1]]] + way[1:]]
+                    near += [way[:k] + [part] + way[k + 1:] for part in (way[k][:1] + way[k][-1:], way[k][:1] * 2, [])]
+                    h.never(self, lambda value: s.is_passage(*values, value), [way[:k] + [part] + way[k + 1:] for part in (None, 1, "way", [None])])
                 for one_way in near:
                     right = is_passage(calendar, body, one, other, one_way)
                     self.assertIs(h.ask(self, s.is_passage, NAMES + ["thing"], values + [one_way]), right)
@@ -155,6 +160,8 @@ class Seasons(unittest.TestCase):
             k = dice.randrange(len(tide))
             near.append([sorted(set(part + [dice.choice(full[k])])) if j == k and full[k] else part for j, part in enumerate(tide)])
             near.append([part + [(x + 90, y) for x, y in part[:1]] if j == k else part for j, part in enumerate(tide)])
+            barred = [(x, y) for x in xs for y in ys if not fits(calendar[k], body, (x, y))]
+            near.append([part + [dice.choice(barred)] if j == k and barred else part for j, part in enumerate(tide)])
         # All that cannot come to other, too, is a tide, if one is not of that.
         near.append([[node for node in part if not s.lives(calendar[k:], body, node, other)] for k, part in enumerate(full)])
         for lists in near:
@@ -191,7 +198,9 @@ class Seasons(unittest.TestCase):
             bent = [(list(stairs), ways, tides), (stairs, {**ways, (77, 77): []}, tides), (stairs, ways, {**tides, (77, 77): []}),
                     (stairs, list(ways), tides), (stairs, ways, list(tides))]
             bent += [(stairs, {**ways, corner: thing}, tides) for corner in ways for thing in (
-                None, [], ways[corner][1:], ways[corner] + [[other]], [part + [part[-1]] for part in ways[corner]])]
+                None, [], ways[corner][1:], ways[corner] + [[other]], [part + [part[-1]] for part in ways[corner]],
+                [[one, one]] + ways[corner][1:], ways[corner][:-1] + [[]], ways[corner][:-1] + [None], [ways[corner][0][1:]] + ways[corner][1:],
+                [[(77, 77), one]] + ways[corner][1:])]
             bent += [(stairs, ways, {**tides, body: thing}) for body in tides for thing in (None, [[other]] * len(calendar), tides[body] + [[]])]
             for some in bent:
                 self.assertIs(s.are_season_papers(*values, *some), False)
@@ -229,6 +238,8 @@ class Seasons(unittest.TestCase):
         self.assertEqual([stairs_between(drawing, one, other) for drawing in lock], [()] * 3)
         self.assertEqual(s.stairs_through(lock, one, other), ((4, 5),))
         self.assertEqual(s.stairs_through([lock[0], lock[2]], one, other), ((4, 5),))
+        for body in ((4, 5), (1, 1), (4, 1), (3, 2)):
+            self.assertTrue(is_passage(lock, body, one, other, s.passage(lock, body, one, other)))
         self.assertEqual(s.stairs_through([lock[2], lock[0]], one, other), ())
         self.assertEqual(s.stairs_through(GATES, (9, 2), (-6, 2)), ((6, None), (12, 4)))
         self.assertEqual(s.stairs_through([GATES[1]], (2, 2), (-6, 2)), ())
@@ -239,6 +250,21 @@ class Seasons(unittest.TestCase):
         self.assertEqual(s.stairs_through([Drawing([])] * 40, one, other), ALL)
         table = s.through_table([Drawing([])] * 40, one, other)
         self.assertIs(s.are_season_papers([Drawing([])] * 40, one, other, ALL, table, {}), True)
+
+    def test_long_calendars(self):
+        dice = random.Random(1110)
+        count = 0
+        for _ in range(150):
+            pool = h.random_blocks(dice, 7, 3, 4)
+            calendar = [Drawing([block for block in pool if dice.random() < 0.5]) for _ in range(7)]
+            one, other = (dice.randint(-4, 4), dice.randint(-4, 4)), (dice.randint(-4, 4), dice.randint(-4, 4))
+            body = (dice.randint(1, 2), dice.randint(1, 2))
+            way = s.passage(calendar, body, one, other)
+            self.assertIs(way is None, s.tide(calendar, body, one, other) is not None)
+            if way is not None:
+                self.assertTrue(is_passage(calendar, body, one, other, way))
+                count += way != [[one]] * 7
+        self.assertGreater(count, 10)
 
     def test_large_numbers(self):
         for calendar, one, other in scenes(1108, 12):

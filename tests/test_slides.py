@@ -6,7 +6,7 @@ from gapstairs.chambers import same_chamber
 from gapstairs.drawings import Drawing, scaled
 from gapstairs.errors import BadBy, BadDrawing, BadIndex, BadSide, BadSpot
 from gapstairs.passages import stairs_between
-from gapstairs.seasons import stairs_through
+from gapstairs.seasons import are_season_papers, stairs_through, through_table, tide_table
 from gapstairs.stairs import inside, joined
 from tests import helpers as h
 from tests.test_forms import ALL
@@ -89,6 +89,8 @@ class Slides(unittest.TestCase):
         drawing, i, side, by, one, other = values
         calendar = s.slide_calendar(drawing, i, side, by)
         self.assertEqual(riding, stairs_through(calendar, one, other))
+        papers = (riding, through_table(calendar, one, other), tide_table(calendar, one, other))
+        self.assertIs(are_season_papers(calendar, one, other, *papers), True)
         self.assertTrue(inside(always, riding))
         found = ()
         for there in calendar:

@@ -181,7 +181,12 @@ class Yards(unittest.TestCase):
         start = Drawing(PEN)
         later = Yard(start)
         later.take(PEN[0])
-        self.assertTrue(later == Yard(Drawing(PEN[1:])))
+        self.assertTrue(later == Yard(Drawing(PEN[1:])) and Yard(Drawing(PEN[1:])) == later)
+        self.assertFalse(later == Yard(start) or Yard(start) == later)
+        also = Yard(Drawing(PEN[:3]))
+        also.put(PEN[3])
+        also.take(PEN[0])
+        self.assertTrue(later == also and also == later)
 
     def test_changed(self):
         yard = filled()
@@ -257,6 +262,10 @@ class Yards(unittest.TestCase):
         yard.promise("aaa", "inn", ((4, 2),), ((4, 2),))
         told = h.fails(self, e.Broken, yard.put, (6, 5, 7, 6))
         self.assertEqual((told.one, told.other, told.body), ("aaa", "inn", (1, 2)))
+        # Where several would be broken, the first pair of words is told, whenever it was promised.
+        for deed in (("put", (6, 4, 7, 6)), ("take", (6, 0, 7, 4)), ("slide", (6, 0, 7, 4), "up", 2)):
+            told = h.fails(self, e.Broken, do, yard, deed)
+            self.assertEqual((told.one, told.other), ("aaa", "inn"))
         # In the place of one that stood, for both orders.
         yard.promise("inn", "aaa", (), ALL)
         self.assertEqual(yard.promises(), {("aaa", "inn"): ((), ALL), ("inn", "out"): (((2, 1),), ((4, 2),))})
@@ -291,6 +300,10 @@ class Yards(unittest.TestCase):
         self.assertIs(is_rebuilding(yard.drawing(), goal, promises, told), True)
         self.assertEqual(len(told), len(rebuilding(yard.drawing(), goal, promises)))
         h.fails(self, e.NotKept, yard.plan, Drawing(PEN[:3]))
+        yard.put((6, 3, 7, 5))
+        self.assertEqual([there.blocks for there in yard.plan(goal)][0], yard.drawing().blocks)
+        yard.undo()
+        self.assertEqual([there.blocks for there in yard.plan(goal)][0], yard.drawing().blocks)
         many = Drawing(PEN[:3] + [(6, 0, 7, 6)] + [(20 + k, 0, 21 + k, 1) for k in range(8)])
         self.assertIsNotNone(yard.plan(Drawing(many.blocks[:-1])))
         yard.put((40, 0, 41, 1))
@@ -414,6 +427,14 @@ class Yards(unittest.TestCase):
         for name, rest in (("release", ()), ("stairs_of", ()), ("sure", ()), ("lived", ()), ("promise", (None, None))):
             h.fails(self, e.NoName, getattr(yard, name), "no", None, *rest)
             h.fails(self, e.NoName, getattr(yard, name), "inn", "no", *rest)
+        square = Yard(Drawing([(0, 0, 1, 1), (0, 3, 1, 4)]))
+        h.fails(self, e.BadBlock, square.put, (0, 0, True, 1))
+        h.fails(self, e.BadBlock, square.take, (0, 0, True, 1))
+        h.fails(self, e.BadBlock, square.slide, (False, 0, 1, 1), "up", 1)
+        h.fails(self, e.BadBy, square.slide, (0, 0, 1, 1), "up", 3)
+        h.fails(self, e.BadBy, square.slide, (0, 3, 1, 4), "down", 3)
+        square.slide((0, 0, 1, 1), "up", 4)
+        self.assertEqual([len(there) for there in square.calendar()], [2, 2, 2, 1, 2])
         h.fails(self, e.BadOther, yard.promise, "inn", "inn", None, None)
         h.fails(self, e.NoPromise, yard.release, "inn", "inn")
         h.fails(self, e.BadHigh, yard.promise, "inn", "out", ALL, ())
