@@ -3,10 +3,14 @@
 from gapstairs.bodies import check_body, encloses, is_body
 from gapstairs.checks import has_just_keys, is_index, is_list
 from gapstairs.errors import BadBook, BadForms, BadRow, NotRising
-from gapstairs.forms import Form, body_behind, check_any_place, followed, is_any_place, still_at
+from gapstairs.forms import (
+    Form, behind_rounds, body_behind, check_any_place, followed, is_any_place, repeated_of, still_at,
+)
 from gapstairs.stairs import ALL, both, either, has, is_stairs, moved, notches_of
 
 MOST_FORMS = 20
+# So many bodies are looked at one by one, which finds short rows; then long ways are gone at once.
+MOST_SINGLY = 2000
 
 
 class Book:
@@ -59,29 +63,93 @@ def is_at_most_some(bodies, body):
     return any([encloses(body, other) for other in bodies])
 
 
+class Step:
+    """How a body is reached: from what, by a form, or by doing again and again what led there from first on."""
+
+    def __init__(self, ahead, number, first, times):
+        self.ahead = ahead
+        self.number = number
+        self.first = first
+        self.times = times
+
+
+class Reach:
+    """The Steps to all places and bodies that are met, the least bodies of each place, and what is to be looked at."""
+
+    def __init__(self, start, body):
+        self.came = {(start, body): None}
+        self.least = {start: [body]}
+        self.waiting = [(start, body)]
+
+
+def take_in(reach, place, body, step):
+    """Take a body at a place as reached; whether it is no other one, or a greater one than one that is known."""
+    known = reach.least.setdefault(place, [])
+    if is_at_most_some(known, body):
+        return False
+    reach.least[place] = [other for other in known if not encloses(other, body)] + [body]
+    reach.came[(place, body)] = step
+    reach.waiting.append((place, body))
+    return True
+
+
+def greater_ahead(came, place, body):
+    """The nearest place and body on the way to these, at the same place and in no item less; None if there is none."""
+    step = came[(place, body)]
+    while step is not None:
+        if step.ahead[0] == place and encloses(step.ahead[1], body):
+            return step.ahead
+        step = came[step.ahead]
+    return None
+
+
+def form_between(book, came, first, last):
+    """The Form of what led from the first to the last place and body."""
+    form = still_at(last[0], ALL)
+    here = last
+    while here != first:
+        step = came[here]
+        if step.times == 0:
+            part = book.forms[step.number]
+        else:
+            part = repeated_of(form_between(book, came, step.first, step.ahead), step.times)
+        form = followed(part, form)
+        here = step.ahead
+    return form
+
+
+def rounds_to_rest(form, body):
+    """How many rounds, none of which makes it greater, make the body as small as it comes."""
+    falls = [-((size - least) // by) for least, by, size in zip(form.least, form.by, body) if by < 0]
+    return max(falls, default=0)
+
+
+def take_rest(book, reach, place, body):
+    """Take in what becomes of a body that is back at a place, and less, if it goes the same round for ever."""
+    first = greater_ahead(reach.came, place, body)
+    if first is None:
+        return
+    form = form_between(book, reach.came, first, (place, body))
+    times = rounds_to_rest(form, body)
+    take_in(reach, place, behind_rounds(form, body, times), Step((place, body), None, first, times))
+
+
 def all_reached(book, start, body):
-    """The dict from each place and body that is met, to the pair of that ahead of it and of the number of the form."""
-    came = {(start, body): None}
-    least = {start: [body]}
-    waiting = [(start, body)]
+    """The dict from each place and body that is met, to the Step by which it is."""
+    reach = Reach(start, body)
     k = 0
-    while k < len(waiting):
-        here, size = waiting[k]
+    while k < len(reach.waiting):
+        here, size = reach.waiting[k]
         k += 1
         # What a lesser body does as well need not be looked at any more.
-        if size not in least[here]:
+        if size not in reach.least[here]:
             continue
         for number, form in enumerate(book.forms):
-            if form.start != here or not has(form.stairs, size):
-                continue
-            there = (form.end, body_behind(form, size))
-            known = least.setdefault(form.end, [])
-            if is_at_most_some(known, there[1]):
-                continue
-            least[form.end] = [other for other in known if not encloses(other, there[1])] + [there[1]]
-            came[there] = ((here, size), number)
-            waiting.append(there)
-    return came
+            if form.start == here and has(form.stairs, size):
+                end = body_behind(form, size)
+                if take_in(reach, form.end, end, Step((here, size), number, None, 0)) and k > MOST_SINGLY:
+                    take_rest(book, reach, form.end, end)
+    return reach.came
 
 
 def least_among(came):
@@ -96,14 +164,15 @@ def least_among(came):
     return found
 
 
-def row_back(came, place, body):
-    """The row by which the body is met at the place."""
-    row = []
-    ahead = came[(place, body)]
-    while ahead is not None:
-        row.append(ahead[1])
-        ahead = came[ahead[0]]
-    return list(reversed(row))
+def row_between(came, first, last):
+    """The row that led from the first to the last place and body."""
+    parts = []
+    here = last
+    while here != first:
+        step = came[here]
+        parts.append([step.number] if step.times == 0 else row_between(came, step.first, step.ahead) * step.times)
+        here = step.ahead
+    return [number for part in reversed(parts) for number in part]
 
 
 def is_body_list(thing):
@@ -163,9 +232,10 @@ def body_for(book, corner):
 
 def row_for(book, one, other, corner):
     """A row from one to other that holds a corner of able."""
-    came = all_reached(book, one, body_for(book, corner))
+    start = (one, body_for(book, corner))
+    came = all_reached(book, start[0], start[1])
     ends = [body for place, body in came if place == other]
-    return row_back(came, other, ends[0])
+    return row_between(came, start, (other, ends[0]))
 
 
 def check_book_ends(book, one, other):
@@ -199,7 +269,9 @@ def rows_reached(book, start, body):
     check_body(body)
     came = all_reached(book, start, body)
     least = least_among(came)
-    return {(place, end): row_back(came, place, end) for place in least for end in least[place]}
+    return {
+        (place, end): row_between(came, (start, body), (place, end)) for place in least for end in least[place]
+    }
 
 
 def is_closed_table(book, start, body, thing):

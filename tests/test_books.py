@@ -235,6 +235,37 @@ class Books(unittest.TestCase):
         self.assertEqual(s.able(book, away, away), ALL)
         self.assertEqual(s.able(book, away, PLACES[0]), ())
 
+    def test_long_ways_down(self):
+        # Ever less, by steps too many to be gone one by one.
+        far = 999999999
+        less, low = Form(PLACES[0], PLACES[0], ALL, (1, 3), (-1, 0)), Form(PLACES[0], PLACES[1], ((5, None),), (1, 1), (0, -7))
+        back = Form(PLACES[1], PLACES[0], ALL, (1, 1), (3, 0))
+        book = s.Book([less, low, back])
+        table = s.reached(book, PLACES[0], (far, far))
+        self.assertEqual(table, {PLACES[0]: [(1, 3), (4, 1)], PLACES[1]: [(1, 1)]})
+        self.assertIs(s.is_closed_table(book, PLACES[0], (far, far), table), True)
+        # By way of another place, each time a little less; some of it goes round within the round.
+        out, home = Form(PLACES[0], PLACES[2], ALL, (1, 1), (2, -1)), Form(PLACES[2], PLACES[0], ALL, (7, 2), (-3, 0))
+        self.assertEqual(s.reached(s.Book([out, home]), PLACES[0], (far, 5)), {PLACES[0]: [(7, 2)], PLACES[2]: [(9, 1)]})
+        book = s.Book([out, home, less, Form(PLACES[2], PLACES[2], ALL, (1, 6), (0, -1))])
+        table = s.reached(book, PLACES[2], (far, far))
+        self.assertEqual(table, {PLACES[0]: [(1, 3), (7, 2)], PLACES[2]: [(3, 2), (9, 1)]})
+        self.assertIs(s.is_closed_table(book, PLACES[2], (far, far), table), True)
+        self.assertTrue(all(max(body) < 12 for bodies in table.values() for body in bodies))
+        # A short row is found, whatever long ones there are.
+        away = Form(PLACES[0], PLACES[0], ALL, (1, 3), (-far, 0))
+        self.assertEqual(s.rows_reached(s.Book([less, away]), PLACES[0], (far, 4)), {(PLACES[0], (1, 4)): [1]})
+
+    def test_rows_of_long_ways(self):
+        for top in (2500, 4001):
+            less, out = Form(PLACES[0], PLACES[0], ALL, (1, 3), (-1, 0)), Form(PLACES[0], PLACES[1], ((5, None),), (1, 1), (0, -2))
+            back = Form(PLACES[1], PLACES[0], ALL, (1, 1), (3, 0))
+            book = s.Book([less, out, back])
+            rows = s.rows_reached(book, PLACES[0], (top, 9))
+            self.assertEqual(rows.keys(), {(PLACES[0], (1, 3)), (PLACES[0], (4, 1)), (PLACES[1], (1, 1))})
+            for (place, body), row in rows.items():
+                self.assertEqual(done(book, PLACES[0], (top, 9), row), (place, body))
+
     def test_wrong_inputs(self):
         # From the one place to the other and back.
         row = lambda thing: type(thing) in (list, tuple) and all(h.number(item) and item == k % 2 for k, item in enumerate(thing))
